@@ -1,0 +1,1 @@
+"""Keptmeanings: tables that keep what functions told, while functions are redefined."""
