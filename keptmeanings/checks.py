@@ -1,21 +1,41 @@
 """What the functions and methods of the package ask of their arguments."""
 
-from keptmeanings.errors import BadBody, BadFunction, BadNumber, BadSetting, BadWording
+from keptmeanings.errors import BadBody, BadFunction, BadNumber, BadRow, BadSetting, BadThing, BadWording
+
+
+def is_whole(value):
+    """Whether a value of any kind is an integer; booleans are none."""
+    return isinstance(value, int) and not isinstance(value, bool)
 
 
 def is_below(value, limit):
     """Whether a value of any kind is an integer from 0 to below the limit."""
-    return isinstance(value, int) and not isinstance(value, bool) and 0 <= value < limit
+    return is_whole(value) and 0 <= value < limit
+
+
+def is_one_of(value, numbers):
+    """Whether a value of any kind is one of these integers."""
+    return is_whole(value) and value in numbers
+
+
+def is_wording(book, value):
+    """Whether a value of any kind is a wording of the book."""
+    if not isinstance(value, tuple) or len(value) != len(book.functions):
+        return False
+    return all([is_below(body, len(bodies)) for body, bodies in zip(value, book.functions)])
+
+
+def is_row(plan, value):
+    """Whether a value of any kind is a row of the plan."""
+    if not isinstance(value, tuple) or len(value) != plan.columns:
+        return False
+    return all([is_below(number, plan.book.base) for number in value])
 
 
 def check_wording(book, wording):
     """Raise BadWording if this is not a wording of the book."""
-    functions = book.functions
-    if not isinstance(wording, tuple) or len(wording) != len(functions):
+    if not is_wording(book, wording):
         raise BadWording("a wording is a tuple with the number of a body for each function")
-    for body, bodies in zip(wording, functions):
-        if not is_below(body, len(bodies)):
-            raise BadWording("a wording has a number of a body for each function")
 
 
 def check_setting(book, setting):
@@ -40,3 +60,15 @@ def check_number(book, number):
     """Raise BadNumber if this is not a number of the book."""
     if not is_below(number, book.base):
         raise BadNumber("not a number of the book")
+
+
+def check_thing(plan, thing):
+    """Raise BadThing if this is not the number of a thing of the plan."""
+    if not is_below(thing, len(plan.things)):
+        raise BadThing("not the number of a thing of the plan")
+
+
+def check_row(plan, row):
+    """Raise BadRow if this is not a row of the plan."""
+    if not is_row(plan, row):
+        raise BadRow("a row is a tuple with a number of the book for each column")

@@ -31,6 +31,12 @@ INTERFACE = {
         Form.__neg__ Form.__contains__ Form.__len__ Form.__eq__ Form.__init__""",
     "books": """Book Book.__init__ Book.base Book.settings Book.functions Book.__len__ Book.__getitem__ Book.wordings
         Book.put Book.tell Book.table Book.__xor__ Book.__eq__ Book.__iter__""",
+    "plans": """Plan Plan.__init__ Plan.book Plan.columns Plan.things Plan.free Plan.writers Plan.askers Plan.__len__
+        Plan.__getitem__ Plan.rows Plan.__or__ Plan.__sub__ Plan.names Plan.__eq__ Plan.__iter__""",
+    "values": "plain passes",
+    "rows": "first_state deeds after states_of told wrong_asks",
+    "judging": """judge is_steady soonest count_states Steady Steady.__init__ Steady.shows Steady.__eq__ Astray
+        Astray.__init__ Astray.shows Astray.__eq__""",
 }
 
 
