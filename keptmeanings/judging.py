@@ -47,7 +47,8 @@ class Astray:
         """Whether the history leads to a state that is wrong for the thing by the ask."""
         check_plan(plan)
         check_thing(plan, thing)
-        if not is_ask(plan, self.ask) or self.ask[0] != thing:
+        # An ask with a boolean in it would be equal to one that is found below.
+        if not is_ask(plan, self.ask):
             return False
         try:
             states = states_of(plan, self.history)

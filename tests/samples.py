@@ -71,8 +71,9 @@ def some_plan(random):
     numbers = [Form.number(n) for n in range(base)]
     functions = []
     for k in range(random.randint(1, 3)):
-        bodies = [some_form(random, [G, G, S, *numbers], range(k), random.randint(1, 4)) for _ in range(random.randint(1, 3))]
-        functions.append(tuple(bodies))
+        leaves = [G, G, S, *numbers]
+        sizes = [random.randint(1, 4) for _ in range(random.randint(1, 3))]
+        functions.append(tuple(some_form(random, leaves, range(k), size) for size in sizes))
     columns = random.randint(1, 2)
     cells = [X, Y][:columns]
     things = []
@@ -99,7 +100,8 @@ def plan_of_400(steady):
         five = (X * Y).same(0)
         return Plan(book, 2, (("kept", S * five), ("again", S * five), ("check", Form.number(1))))
     some = X.then(1, Y)
-    return Plan(Book(3, 3, ((G, 1 - G),)), 2, (("kept", S * some), ("again", S * some), ("kept", S * X.then(1, Y.same(2)))))
+    things = (("kept", S * some), ("again", S * some), ("kept", S * X.then(1, Y.same(2))))
+    return Plan(Book(3, 3, ((G, 1 - G),)), 2, things)
 
 
 def plan_of_402():

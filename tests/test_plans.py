@@ -5,7 +5,7 @@ from keptmeanings.books import Book
 from keptmeanings.errors import BadFree, BadPlan, BadThing
 from keptmeanings.forms import Form
 from keptmeanings.plans import Plan
-from tests.samples import G, K, L, S, X, Y, few_plans, made_plans
+from tests.samples import G, K, L, S, X, few_plans, made_plans
 from tests.support import Plain, wrong_values
 
 BOOK = Book(2, 2, ((G, 1 - G), (G.by(0),)))

@@ -3,11 +3,10 @@ from itertools import product
 
 from keptmeanings.books import Book
 from keptmeanings.errors import BadAsk, BadDeed, BadHistory, BadPlan, BadState
-from keptmeanings.forms import Form
 from keptmeanings.plans import Plan
 from keptmeanings.rows import after, deeds, first_state, states_of, told, wrong_asks
 from tests.reading import Reading
-from tests.samples import G, K, S, X, Y, example_plan, few_plans, made_plans, mixed_plan, three_plan
+from tests.samples import G, K, S, X, example_plan, few_plans, made_plans, mixed_plan, three_plan
 from tests.support import Hostile, assert_errors_in_order, wrong_values
 
 PLANS = few_plans() + made_plans(6, 40)
