@@ -32,6 +32,28 @@ def is_row(plan, value):
     return all([is_below(number, plan.book.base) for number in value])
 
 
+def is_place(plan, value):
+    """Whether a value of any kind is a pair of a row and an asker of the plan."""
+    if not isinstance(value, tuple) or len(value) != 2:
+        return False
+    return is_row(plan, value[0]) and is_one_of(value[1], plan.askers)
+
+
+def is_among(value, deeds):
+    """Whether a value of any kind is one of the deeds in a list.
+
+    Only what is made as deeds are is compared with them: a boolean would be equal to an integer.
+    """
+    return isinstance(value, tuple) and all([is_part(part) for part in value]) and value in deeds
+
+
+def is_part(value):
+    """Whether a value of any kind is a text, an integer or a tuple of integers."""
+    if isinstance(value, tuple):
+        return all([is_whole(number) for number in value])
+    return isinstance(value, str) or is_whole(value)
+
+
 def check_wording(book, wording):
     """Raise BadWording if this is not a wording of the book."""
     if not is_wording(book, wording):

@@ -1,10 +1,11 @@
 """Judging: whether a thing ever goes wrong, whatever is written, redefined and rebuilt."""
 
 from keptmeanings.checks import check_thing
-from keptmeanings.errors import BadHistory, TooLarge
+from keptmeanings.errors import BadHistory
 from keptmeanings.meanings import Meanings
 from keptmeanings.plans import check_plan
 from keptmeanings.rows import deeds_of, first_state, is_ask, is_state, state_after, states_of, wrong_for
+from keptmeanings.ways import deeds_to, ways_from
 
 MOST_STATES = 400
 
@@ -28,7 +29,7 @@ class Steady:
         for state in listed:
             if wrong_for(meanings, state, [thing]) != {}:
                 return False
-            if not all([state_after(meanings, state, deed) in listed for deed in deeds_of(plan, state)]):
+            if not all([following in listed for _, following in steps_of(meanings, state)]):
                 return False
         return True
 
@@ -70,7 +71,7 @@ def judge(plan, thing):
     for state in ways:
         asks = list(wrong_for(meanings, state, [thing]))
         if asks != []:
-            return Astray(history_to(ways, state), asks[0])
+            return Astray(deeds_to(ways, state), asks[0])
     return Steady(list(ways))
 
 
@@ -92,31 +93,10 @@ def count_states(plan):
 
 
 def ways_about(meanings):
-    """A dict from all states that come about, soonest first, to pairs of the state before and the deed that led there.
-
-    For the first state, it is None. Raise TooLarge if there are more states than are gone through.
-    """
-    plan = meanings.plan
-    found = [first_state(plan)]
-    ways = {found[0]: None}
-    at = 0
-    while at < len(found):
-        state = found[at]
-        for deed in deeds_of(plan, state):
-            following = state_after(meanings, state, deed)
-            if following not in ways:
-                ways[following] = (state, deed)
-                found.append(following)
-        if len(found) > MOST_STATES:
-            raise TooLarge("more than 400 states come about")
-        at += 1
-    return ways
+    """How all states come about, soonest first; raise TooLarge if there are too many of them."""
+    return ways_from(first_state(meanings.plan), lambda state: steps_of(meanings, state), MOST_STATES)
 
 
-def history_to(ways, state):
-    """The history that led to a state, by the pairs that ways has."""
-    history = []
-    while ways[state] is not None:
-        state, deed = ways[state]
-        history.append(deed)
-    return history[::-1]
+def steps_of(meanings, state):
+    """The pairs of a deed of a state and the state after it."""
+    return [(deed, state_after(meanings, state, deed)) for deed in deeds_of(meanings.plan, state)]

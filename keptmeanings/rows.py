@@ -1,6 +1,6 @@
 """Kept numbers: the states of a row, the deeds that change them, and what is told by asks."""
 
-from keptmeanings.checks import is_below, is_one_of, is_row, is_wording
+from keptmeanings.checks import is_among, is_below, is_one_of, is_row, is_wording
 from keptmeanings.errors import BadAsk, BadDeed, BadHistory, BadState
 from keptmeanings.meanings import Meanings
 from keptmeanings.plans import check_plan
@@ -25,7 +25,7 @@ def after(plan, state, deed):
     """The state after a deed."""
     check_plan(plan)
     check_state(plan, state)
-    if not is_deed(plan, state, deed):
+    if not is_among(deed, deeds_of(plan, state)):
         raise BadDeed("not a deed of the state")
     return state_after(Meanings(plan), state, deed)
 
@@ -39,7 +39,7 @@ def states_of(plan, history):
     state = first_state(plan)
     states = [state]
     for index, deed in enumerate(history):
-        if not is_deed(plan, state, deed):
+        if not is_among(deed, deeds_of(plan, state)):
             raise BadHistory(index)
         state = state_after(meanings, state, deed)
         states.append(state)
@@ -64,11 +64,18 @@ def wrong_asks(plan, state):
 
 def deeds_of(plan, state):
     """The list of the deeds of a state, in order, of a plan and a state that are none to doubt."""
-    found = [("put", k, body) for k in plan.free for body in range(len(plan.book.functions[k]))]
-    found.extend([("build", thing, writer) for thing in range(len(plan)) for writer in plan.writers])
-    if state[1] is None:
-        found.extend([("write", row, writer) for row in plan.rows() for writer in plan.writers])
-    return found
+    writes = [("write", row, writer) for row in plan.rows() for writer in plan.writers]
+    return puts_of(plan) + builds_of(plan) + (writes if state[1] is None else [])
+
+
+def puts_of(plan):
+    """The list of the deeds that put a body of a free function, in order."""
+    return [("put", k, body) for k in plan.free for body in range(len(plan.book.functions[k]))]
+
+
+def builds_of(plan):
+    """The list of the deeds that build a thing, in order."""
+    return [("build", thing, writer) for thing in range(len(plan)) for writer in plan.writers]
 
 
 def state_after(meanings, state, deed):
@@ -136,18 +143,6 @@ def is_held(plan, value):
 def is_kept_number(value, mode, base):
     """Whether a value of any kind can be the kept number of a thing with this mode."""
     return is_below(value, base) and (mode != "check" or value == 1)
-
-
-def is_deed(plan, state, value):
-    """Whether a value of any kind is a deed of the state."""
-    if not isinstance(value, tuple) or len(value) != 3 or not isinstance(value[0], str):
-        return False
-    word, what, by = value
-    if word == "put":
-        return is_one_of(what, plan.free) and is_below(by, len(plan.book.functions[what]))
-    if word == "build":
-        return is_below(what, len(plan)) and is_one_of(by, plan.writers)
-    return word == "write" and state[1] is None and is_row(plan, what) and is_one_of(by, plan.writers)
 
 
 def is_ask(plan, value):

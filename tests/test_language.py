@@ -37,6 +37,13 @@ INTERFACE = {
     "rows": "first_state deeds after states_of told wrong_asks",
     "judging": """judge is_steady soonest count_states Steady Steady.__init__ Steady.shows Steady.__eq__ Astray
         Astray.__init__ Astray.shows Astray.__eq__""",
+    "harmless": """weigh harmless_things leans Harmless Harmless.__init__ Harmless.shows Harmless.__eq__ Harmful
+        Harmful.__init__ Harmful.shows Harmful.__eq__""",
+    "roads": """first_stand stand_deeds is_good stand_after road road_price Road Road.__init__ Road.shows Road.__eq__ NoRoad
+        NoRoad.__init__ NoRoad.shows NoRoad.__eq__""",
+    "probes": "reach places parted probes Probes Probes.__init__ Probes.shows Probes.__eq__",
+    "once": """first_couple couple_deeds couple_after once first_twice Once Once.__init__ Once.shows Once.__eq__ Twice
+        Twice.__init__ Twice.shows Twice.__eq__""",
 }
 
 
@@ -120,6 +127,27 @@ class TestLanguage(unittest.TestCase):
                 self.assertIn(name[2:-2], METHODS, place)
             else:
                 self.assertFalse(hasattr(builtins, name), f"{place} {name}")
+
+    def test_names_of_classes_and_imports_are_not_bound_again(self):
+        for path in FILES:
+            tree = tree_of(path)
+            taken = {one.name for node in tree.body if isinstance(node, ast.ImportFrom) for one in node.names}
+            taken |= {node.name for node in tree.body if isinstance(node, ast.ClassDef)}
+            for node in ast.walk(tree):
+                if isinstance(node, ast.arg):
+                    self.assertNotIn(node.arg, taken, f"{path.name}:{node.lineno}")
+                if isinstance(node, ast.Name) and isinstance(node.ctx, ast.Store):
+                    self.assertNotIn(node.id, taken, f"{path.name}:{node.lineno}")
+
+    def test_imports_go_one_way(self):
+        above = {}
+        for place, node in nodes(ast.ImportFrom):
+            if node.module.startswith("keptmeanings."):
+                above.setdefault(place.split(".")[0], set()).add(node.module.split(".")[1])
+        for _ in FILES:
+            for name in list(above):
+                above[name] |= {far for near in above[name] for far in above.get(near, ())}
+        self.assertEqual([name for name, found in above.items() if name in found], [])
 
     def test_decorators(self):
         for place, node in nodes((ast.FunctionDef, ast.ClassDef)):
