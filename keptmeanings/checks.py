@@ -1,6 +1,7 @@
 """What the functions and methods of the package ask of their arguments."""
 
-from keptmeanings.errors import BadBody, BadFunction, BadNumber, BadRow, BadSetting, BadThing, BadWording
+from keptmeanings.errors import (BadBody, BadForget, BadFunction, BadNumber, BadRow, BadSetting, BadThing,
+                                 BadWording)
 
 
 def is_whole(value):
@@ -37,6 +38,18 @@ def is_place(plan, value):
     if not isinstance(value, tuple) or len(value) != 2:
         return False
     return is_row(plan, value[0]) and is_one_of(value[1], plan.askers)
+
+
+def is_pair_of_functions(book, value):
+    """Whether a value of any kind is a pair of functions of the book, which may be the same."""
+    return isinstance(value, tuple) and len(value) == 2 and all([is_below(k, len(book.functions)) for k in value])
+
+
+def is_rule(book, value):
+    """Whether a value of any kind is a rule of forgetting for the book."""
+    if not isinstance(value, tuple) or not all([is_pair_of_functions(book, pair) for pair in value]):
+        return False
+    return all([one < other for one, other in zip(value, value[1:])])
 
 
 def is_among(value, deeds):
@@ -94,3 +107,9 @@ def check_row(plan, row):
     """Raise BadRow if this is not a row of the plan."""
     if not is_row(plan, row):
         raise BadRow("a row is a tuple with a number of the book for each column")
+
+
+def check_rule(book, rule):
+    """Raise BadForget if this is not a rule of forgetting for the book."""
+    if not is_rule(book, rule):
+        raise BadForget("a rule of forgetting is an ascending tuple of pairs of functions")

@@ -1,6 +1,6 @@
 """What the things of a plan come to, and what is there after a row is written, or a thing is built."""
 
-from keptmeanings.reckoning import comes_to, tables_by
+from keptmeanings.reckoning import comes_to, tables_by, telling
 
 
 class Meanings:
@@ -31,8 +31,8 @@ class Meanings:
         key = (thing, wording, setting, row, read)
         if key not in self._numbers:
             leaves = leaves_of(setting, row, kept)
-            tables = self.tables(wording, setting)
-            self._numbers[key] = comes_to(self._trees[thing], self._plan.book.base, leaves, tables)
+            tells = telling(self.tables(wording, setting))
+            self._numbers[key] = comes_to(self._trees[thing], self._plan.book.base, leaves, tells)
         return self._numbers[key]
 
     def plain(self, wording, setting, row):

@@ -12,23 +12,23 @@ def combined(word, one, other, base):
     return 1 if one == other else 0
 
 
-def comes_to(tree, base, leaves, tables):
+def comes_to(tree, base, leaves, tells):
     """The number that a form comes to.
 
     The leaves are a dict from the trees of given, setting, columns and kept numbers to their numbers;
-    the tables have, for each function, the list of what it tells for all numbers.
+    tells is a function that tells what a function, by its number, tells for a number.
     """
     word = tree[0]
     if word == "number":
         return tree[1]
     if word == "call":
-        return tables[tree[1]][comes_to(tree[2], base, leaves, tables)]
+        return tells(tree[1], comes_to(tree[2], base, leaves, tells))
     if word == "when":
-        test = comes_to(tree[1], base, leaves, tables)
-        return comes_to(tree[2] if test != 0 else tree[3], base, leaves, tables)
+        test = comes_to(tree[1], base, leaves, tells)
+        return comes_to(tree[2] if test != 0 else tree[3], base, leaves, tells)
     if word in ("sum", "less", "times", "same"):
-        one = comes_to(tree[1], base, leaves, tables)
-        return combined(word, one, comes_to(tree[2], base, leaves, tables), base)
+        one = comes_to(tree[1], base, leaves, tells)
+        return combined(word, one, comes_to(tree[2], base, leaves, tells), base)
     return leaves[tree]
 
 
@@ -39,6 +39,11 @@ def tables_by(book, wording, setting):
     # A body calls only earlier functions, so their tables are there when it is gone through.
     for bodies, body in zip(book.functions, wording):
         tree = bodies[body].tree
-        tables.append([comes_to(tree, base, {("given",): number, ("setting",): setting}, tables)
+        tables.append([comes_to(tree, base, {("given",): number, ("setting",): setting}, telling(tables))
                        for number in range(base)])
     return tables
+
+
+def telling(tables):
+    """The function that tells what a function tells for a number, by the tables."""
+    return lambda function, number: tables[function][number]

@@ -164,3 +164,18 @@ def assert_errors_in_order(case, function, good, checks):
                 with case.assertRaises(error) as caught:
                     function(*arguments)
                 case.assertIs(caught.exception.__class__, error)
+
+
+def assert_equal_by_attributes(case, made):
+    """Objects that are made of pairs of a class and what it takes, all of them unlike, are equal if made alike."""
+    for (at, (kind, parts)), (place, (other, others)) in product(enumerate(made), repeat=2):
+        case.assertIs(kind(*parts) == other(*others), at == place)
+        case.assertIs(kind(*parts) != other(*others), at != place)
+
+
+def assert_no_other_equal(case, objects, others):
+    """No object is equal to any of the others, which are of other classes."""
+    for one, other in product(objects, [*others, None, 0, [], (), {}, Plain(), Plain]):
+        case.assertIs(one == other, False)
+        case.assertIs(other == one, False)
+        case.assertIs(one != other, True)

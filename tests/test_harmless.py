@@ -8,7 +8,8 @@ from keptmeanings.harmless import Harmful, Harmless, harmless_things, leans, wei
 from keptmeanings.plans import Plan
 from tests.reading import Reading
 from tests.samples import G, K, S, X, Y, example_plan, few_plans, made_plans, mixed_plan, three_plan
-from tests.support import Hostile, Plain, assert_errors_in_order, wrong_values
+from tests.support import (Hostile, assert_equal_by_attributes, assert_errors_in_order, assert_no_other_equal,
+                           wrong_values)
 
 PLANS = few_plans() + made_plans(31, 120)
 
@@ -83,7 +84,8 @@ class TestWeigh(unittest.TestCase):
         plan = example_plan()
         fixed = plan - [0]
         self.assertEqual(weigh(fixed, (0,), 0, 1, 0), Harmful((0,), 0))
-        self.assertEqual((harmless_things(fixed, (0,), 0, 1), leans(fixed)), (harmless_things(plan, (0,), 0, 1), leans(plan)))
+        self.assertEqual((harmless_things(fixed, (0,), 0, 1), leans(fixed)),
+                         (harmless_things(plan, (0,), 0, 1), leans(plan)))
         self.assertEqual(leans(fixed), [(0, 0), (1, 0), (2, 0)])
 
     def test_a_check_is_harmed_by_0_alone(self):
@@ -116,8 +118,10 @@ class TestWeigh(unittest.TestCase):
         given, x = Form.given(), Form.column(0).by(0)
         plan = Plan(Book(3, 1, ((given * given, given.then(1, 0), given),)), 1, (('kept', x), ('check', x)))
         told = [harmless_things(plan, (0,), 0, 1), harmless_things(plan, (0,), 0, 2),
-                weigh(plan, (0,), 0, 2, 0) == Harmful((2,), 0), weigh(plan, (0,), 0, 2, 1).pairs, leans(plan), plan.names(1)]
-        self.assertEqual(told, [[0, 1], [1], True, {((0,), 0): (0, 0), ((1,), 0): (1, 1), ((2,), 0): (1, 2)}, [(0, 0)], [0]])
+                weigh(plan, (0,), 0, 2, 0) == Harmful((2,), 0), weigh(plan, (0,), 0, 2, 1).pairs, leans(plan),
+                plan.names(1)]
+        self.assertEqual(told, [[0, 1], [1], True, {((0,), 0): (0, 0), ((1,), 0): (1, 1), ((2,), 0): (1, 2)},
+                                [(0, 0)], [0]])
 
     def test_argument_names(self):
         plan = example_plan()
@@ -172,7 +176,8 @@ class TestHarmless(unittest.TestCase):
             self.assertIs(Harmless(dict(reversed(list(pairs.items())))).shows(plan, *arguments), True)
             self.assertIs(Harmless({}).shows(plan, *arguments), False)
             for place, (before, after) in pairs.items():
-                self.assertIs(Harmless({one: pairs[one] for one in pairs if one != place}).shows(plan, *arguments), False)
+                self.assertIs(Harmless({one: pairs[one] for one in pairs if one != place}).shows(plan, *arguments),
+                              False)
                 for pair in product(range(-1, base + 1), repeat=2):
                     self.assertIs(Harmless({**pairs, place: pair}).shows(plan, *arguments), pair == (before, after))
                 for pair in [(before,), (before, after, 0), (), [before, after], (None, after), None, before,
@@ -233,7 +238,8 @@ class TestHarmful(unittest.TestCase):
     def test_no_rows_and_no_askers(self):
         plan, arguments = example_plan(), ((0,), 0, 1, 0)
         self.assertIs(Harmful((1,), 0).shows(plan, *arguments), True)
-        for row, asker in [((True,), 0), ((1,), False), ((1, 1), 0), ((), 0), (1, 0), (None, 0), ((1,), None), ([1], 0),
+        for row, asker in [((True,), 0), ((1,), False), ((1, 1), 0), ((), 0), (1, 0), (None, 0), ((1,), None),
+                           ([1], 0),
                            ((1,), (0,)), ((9,), 0), ((1,), 9), (Hostile(), 0), ((1,), Hostile()), ((Hostile(),), 0)]:
             self.assertIs(Harmful(row, asker).shows(plan, *arguments), False)
 
@@ -255,17 +261,12 @@ class TestEqual(unittest.TestCase):
         made = [(Harmless, ({},)), (Harmless, ({place: (0, 0)},)), (Harmless, ({place: (0, 1)},)),
                 (Harmless, ({other: (0, 0)},)), (Harmless, ({place: (0, 0), other: (0, 0)},)),
                 (Harmful, ((0,), 0)), (Harmful, ((1,), 0)), (Harmful, ((0,), 1))]
-        for (at, (kind, parts)), (where, (others, other_parts)) in product(enumerate(made), enumerate(made)):
-            self.assertIs(kind(*parts) == others(*other_parts), at == where)
-            self.assertIs(kind(*parts) != others(*other_parts), at != where)
+        assert_equal_by_attributes(self, made)
         self.assertEqual(Harmless({place: (0, 0), other: (1, 1)}), Harmless({other: (1, 1), place: (0, 0)}))
 
     def test_not_equal_to_other_classes(self):
-        for one in (Harmless({}), Harmful((0,), 0)):
-            for other in [{}, None, 0, Plain(), example_plan(), Harmless, example_plan().book, ((0,), 0), X]:
-                self.assertIs(one == other, False)
-                self.assertIs(other == one, False)
-                self.assertIs(one != other, True)
+        plan = example_plan()
+        assert_no_other_equal(self, [Harmless({}), Harmful((0,), 0)], [plan, plan.book, X])
 
 
 class TestErrors(unittest.TestCase):
@@ -274,7 +275,8 @@ class TestErrors(unittest.TestCase):
         plan = Plan(book, 2, (("kept", X), ("check", Y)), free=(0,), askers=(1,))
         checks = [
             (0, BadPlan, [*wrong_values()[::5], None, Hostile(), book, X, Plan, (plan,)]),
-            (1, BadWording, [*wrong_values()[::4], (0, 0), (0, 0, 0, 0), (0, 3, 0), (2, 0, 0), [0, 0, 0], (0, True, 0)]),
+            (1, BadWording, [*wrong_values()[::4], (0, 0), (0, 0, 0, 0), (0, 3, 0), (2, 0, 0), [0, 0, 0],
+                             (0, True, 0)]),
             (2, BadFunction, [3, *wrong_values()[::4], True, -1, "0", (0,), 1j, Hostile()]),
             (3, BadBody, [3, *wrong_values()[::4], True, -1, "0", (0,), Hostile()]),
             (4, BadThing, [2, *wrong_values()[::4], True, -1, "0", (0,), Hostile()]),

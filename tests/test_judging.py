@@ -11,7 +11,7 @@ from keptmeanings.rows import deeds, states_of, wrong_asks
 from tests.reading import Reading
 from tests.samples import (G, K, S, X, example_plan, few_plans, made_plans, mixed_plan, plan_of_400, plan_of_402,
                            three_plan)
-from tests.support import Plain, assert_errors_in_order, wrong_values
+from tests.support import assert_equal_by_attributes, assert_errors_in_order, assert_no_other_equal, wrong_values
 
 PLANS = [plan for plan in few_plans() + made_plans(8, 250) if len(Reading(plan).about(400)) <= 400]
 
@@ -327,16 +327,11 @@ class TestEqual(unittest.TestCase):
     def test_attributes(self):
         made = [(Steady, ([],)), (Steady, ([((0,), None)],)), (Steady, ([((0,), None)] * 2,)), (Astray, ([], (0, 0, 0))),
                 (Astray, ([], (0, 0, 1))), (Astray, ([("put", 0, 0)], (0, 0, 0))), (Astray, ([("put", 0, 1)], (0, 0, 0)))]
-        for (at, (kind, parts)), (place, (other, others)) in product(enumerate(made), enumerate(made)):
-            self.assertIs(kind(*parts) == other(*others), at == place)
-            self.assertIs(kind(*parts) != other(*others), at != place)
+        assert_equal_by_attributes(self, made)
 
     def test_not_equal_to_other_classes(self):
-        for one in (Steady([]), Astray([], (0, 0, 0))):
-            for other in [[], None, 0, Plain(), example_plan(), Steady, example_plan().book, ([], (0, 0, 0)), X]:
-                self.assertIs(one == other, False)
-                self.assertIs(other == one, False)
-                self.assertIs(one != other, True)
+        plan = example_plan()
+        assert_no_other_equal(self, [Steady([]), Astray([], (0, 0, 0))], [plan, plan.book, X])
 
 
 class TestErrors(unittest.TestCase):

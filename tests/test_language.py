@@ -44,6 +44,13 @@ INTERFACE = {
     "probes": "reach places parted probes Probes Probes.__init__ Probes.shows Probes.__eq__",
     "once": """first_couple couple_deeds couple_after once first_twice Once Once.__init__ Once.shows Once.__eq__ Twice
         Twice.__init__ Twice.shows Twice.__eq__""",
+    "tables": """Table Table.__init__ Table.plan Table.wording Table.numbers Table.journal Table.session Table.__len__
+        Table.__contains__ Table.__getitem__ Table.__setitem__ Table.take Table.use Table.add Table.put Table.build
+        Table.seek Table.undo Table.branch Table.attempt Table.__iter__""",
+    "texts": "write_form write_book write_plan write_history read_form read_book read_plan read_history",
+    "remembering": """first_scene scene_after told_along recall is_fresh soonest_stale Fresh Fresh.__init__ Fresh.shows
+        Fresh.__eq__ Stale Stale.__init__ Stale.shows Stale.__eq__""",
+    "forgetting": "need least_rule is_enough Needed Needed.__init__ Needed.shows Needed.__eq__",
 }
 
 

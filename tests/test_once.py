@@ -9,7 +9,8 @@ from keptmeanings.once import Once, Twice, couple_after, couple_deeds, first_cou
 from keptmeanings.plans import Plan
 from tests.reading import Reading
 from tests.samples import G, K, S, X, Y, example_plan, few_plans, made_plans, mixed_plan
-from tests.support import Hostile, Plain, assert_errors_in_order, wrong_values
+from tests.support import (Hostile, assert_equal_by_attributes, assert_errors_in_order, assert_no_other_equal,
+                           wrong_values)
 
 
 def telling_plans():
@@ -69,7 +70,8 @@ class OnceReading(Reading):
             return False
         _, side, row, s = deed
         other = couple[1 + (1 - side)]
-        return bool(other) and self.passes(couple[0], s, row) and other[1][self.thing] == self.number(couple[0], s, row)
+        return bool(other) and self.passes(couple[0], s, row) and other[1][self.thing] == self.number(couple[0], s,
+                                                                                                      row)
 
     def bars_wrongly(self, couple, deed):
         if not self.bars(couple, deed):
@@ -101,7 +103,8 @@ class OnceReading(Reading):
         """The couples that come about, by the least number of deeds; at least so many that there are more than most."""
         seen, levels = {self.start}, [[self.start]]
         while levels[-1] and len(seen) <= most:
-            following = {self.couple_after(couple, deed) for couple in levels[-1] for deed in self.couple_deeds(couple)}
+            following = {self.couple_after(couple, deed) for couple in levels[-1]
+                         for deed in self.couple_deeds(couple)}
             levels.append(sorted(following - seen, key=repr))
             seen |= following
         return levels
@@ -199,7 +202,8 @@ class TestCouples(unittest.TestCase):
         plan = Plan(Book(3, 1, ((G, G + 1),)), 1, (("kept", X.by(0)), ("kept", X), ("check", X.by(0))))
         zero, one, two = ((0,), (1, 0, 1)), ((1,), (2, 1, 1)), ((2,), (0, 0, 1))
         # By the first wording, each row has its own number, so what was kept by another one changes on both sides.
-        self.assertEqual(couple_after(plan, 0, ((0,), zero, one), ("build", 0, 0)), ((0,), ((0,), (0, 0, 1)), ((1,), (1, 1, 1))))
+        self.assertEqual(couple_after(plan, 0, ((0,), zero, one), ("build", 0, 0)),
+                         ((0,), ((0,), (0, 0, 1)), ((1,), (1, 1, 1))))
         # The rows would both keep 1: nothing is done on either side.
         same = ((0,), zero, ((0,), (0, 1, 1)))
         self.assertEqual(couple_after(plan, 0, same, ("build", 0, 0)), same)
@@ -263,7 +267,8 @@ class TestOnce(unittest.TestCase):
 
     def test_how_many_deeds(self):
         plans = telling_plans()
-        self.assertEqual([first_twice(plans[at], 0) for at in (0, 1, 2, 3, 5, 7, 12)], [3, None, 3, None, 2, None, None])
+        self.assertEqual([first_twice(plans[at], 0) for at in (0, 1, 2, 3, 5, 7, 12)],
+                         [3, None, 3, None, 2, None, None])
         self.assertEqual(first_twice(Plan(Book(2, 1, ((G * 0, G),)), 1, (("kept", X.by(0)),)), 0), 3)
 
     def test_barred_or_twins_alone(self):
@@ -341,7 +346,8 @@ class TestShowsOnce(unittest.TestCase):
     def test_any_order_and_more_than_once(self):
         for plan, thing, _, told in judged(Once):
             couples = told.couples
-            for changed in (couples[::-1], couples + couples, couples[1:] + couples[:1], sorted(couples, key=repr) + couples[:2]):
+            for changed in (couples[::-1], couples + couples, couples[1:] + couples[:1],
+                            sorted(couples, key=repr) + couples[:2]):
                 self.assertIs(Once(changed).shows(plan, thing), True)
 
     def test_left_out(self):
@@ -392,10 +398,14 @@ class TestShowsOnce(unittest.TestCase):
         for plan, thing, _, told in judged(Once)[:12]:
             wording, row, kept = (0,) * len(plan.book), (0,) * plan.columns, (1,) * len(plan)
             held = (row, kept)
-            for wrong in [(wording, None), (wording, None, None, None), (wording + (0,), None, None), ((9,) * len(wording), None, None),
-                          ((False,) * len(wording), None, None), (wording, ((9,) * len(row), kept), None), (wording, None, (row,)),
-                          (wording, None, (row, kept + (1,))), (wording, (row, (True,) * len(kept)), None), (wording, (), None),
-                          (wording, held, ((False,) * len(row), kept)), ((), None, None), (wording, None, (row, (3,) * len(kept)))]:
+            for wrong in [(wording, None), (wording, None, None, None), (wording + (0,), None, None),
+                          ((9,) * len(wording), None, None),
+                          ((False,) * len(wording), None, None), (wording, ((9,) * len(row), kept), None),
+                          (wording, None, (row,)),
+                          (wording, None, (row, kept + (1,))), (wording, (row, (True,) * len(kept)), None),
+                          (wording, (), None),
+                          (wording, held, ((False,) * len(row), kept)), ((), None, None),
+                          (wording, None, (row, (3,) * len(kept)))]:
                 self.assertIs(Once(told.couples + [wrong]).shows(plan, thing), False)
                 self.assertIs(Once([wrong] + told.couples).shows(plan, thing), False)
 
@@ -408,7 +418,8 @@ class TestShowsOnce(unittest.TestCase):
     def test_never_for_a_twice(self):
         for plan, thing, reading, _ in judged(Twice)[:25]:
             self.assertIs(Once(reading.couples()).shows(plan, thing), False)
-            self.assertIs(Once([couple for couple in reading.couples() if not reading.twins(couple)]).shows(plan, thing), False)
+            apart = [couple for couple in reading.couples() if not reading.twins(couple)]
+            self.assertIs(Once(apart).shows(plan, thing), False)
 
     def test_current_attributes_and_copies(self):
         plan = telling_plans()[1]
@@ -481,10 +492,14 @@ class TestShowsTwice(unittest.TestCase):
     def test_deeds_that_are_none(self):
         plan = telling_plans()[0]
         history = [("write", 0, (0,), 0), ("put", 0, 1), ("write", 1, (1,), 0)]
-        for wrong in [("put", 0, 2), ("put", 1, 0), ("put", 0, True), ("put", 0), (), ("build", 1, 0), ("build", 0, 1),
-                      ("write", (0,), 0), ("write", 0, (1,), 0), ("write", 2, (1,), 0), ("write", True, (1,), 0), ("take", 1),
-                      ("take", 2), ("take", True), ("take",), ("take", 0, 0), ("write", 1, (2,), 0), ("write", 1, (1,), 1),
-                      ("write", 1, (True,), 0), ("write", 1, (1,), False), (0, 1, (1,), 0), ("shut", 0), None, Hostile()]:
+        for wrong in [("put", 0, 2), ("put", 1, 0), ("put", 0, True), ("put", 0), (), ("build", 1, 0),
+                      ("build", 0, 1),
+                      ("write", (0,), 0), ("write", 0, (1,), 0), ("write", 2, (1,), 0), ("write", True, (1,), 0),
+                      ("take", 1),
+                      ("take", 2), ("take", True), ("take",), ("take", 0, 0), ("write", 1, (2,), 0),
+                      ("write", 1, (1,), 1),
+                      ("write", 1, (True,), 0), ("write", 1, (1,), False), (0, 1, (1,), 0), ("shut", 0), None,
+                      Hostile()]:
             for changed in (history[:2] + [wrong], history[:2] + [wrong] + history[2:], history + [wrong]):
                 self.assertIs(Twice(changed, "barred").shows(plan, 0), False)
 
@@ -514,18 +529,14 @@ class TestShowsTwice(unittest.TestCase):
 class TestEqual(unittest.TestCase):
     def test_attributes(self):
         couple = ((0,), None, None)
-        made = [(Once, ([],)), (Once, ([couple],)), (Once, ([couple] * 2,)), (Twice, ([], "twins")), (Twice, ([], "barred")),
+        made = [(Once, ([],)), (Once, ([couple],)), (Once, ([couple] * 2,)), (Twice, ([], "twins")),
+                (Twice, ([], "barred")),
                 (Twice, ([("put", 0, 0)], "twins")), (Twice, ([("put", 0, 1)], "twins"))]
-        for (at, (kind, parts)), (where, (others, other_parts)) in product(enumerate(made), enumerate(made)):
-            self.assertIs(kind(*parts) == others(*other_parts), at == where)
-            self.assertIs(kind(*parts) != others(*other_parts), at != where)
+        assert_equal_by_attributes(self, made)
 
     def test_not_equal_to_other_classes(self):
-        for one in (Once([]), Twice([], "twins")):
-            for other in [[], None, 0, Plain(), example_plan(), Once, example_plan().book, ([], "twins"), X]:
-                self.assertIs(one == other, False)
-                self.assertIs(other == one, False)
-                self.assertIs(one != other, True)
+        plan = example_plan()
+        assert_no_other_equal(self, [Once([]), Twice([], "twins")], [plan, plan.book, X])
 
 
 class TestErrors(unittest.TestCase):
@@ -537,30 +548,42 @@ class TestErrors(unittest.TestCase):
     def no_couples(self):
         row, kept = (0, 1), (1, 0, 1)
         held, wording = (row, kept), (0, 0)
-        return [None, *wrong_values()[::3], wording, (wording,), (wording, None), (wording, None, None, None), [wording, None, None],
-                (wording, held), ((0,), None, None), ((3, 0), None, None), ((0, 1), None, None), ((0, False), None, None),
-                (None, None, None), (wording, False, None), (wording, None, False), (wording, 0, None), (wording, None, ()),
-                (wording, row, None), (wording, (row,), held), (wording, held, (row, kept, kept)), (wording, [row, kept], None),
-                (wording, (list(row), kept), None), (wording, None, (row, list(kept))), (wording, ((0, 2), kept), None),
-                (wording, ((0, True), kept), None), (wording, None, (row, (1, 0, 0))), (wording, held, (row, (1, 0, True))),
-                (wording, (row, (1, 2, 1)), held), (wording, None, Hostile()), (Hostile(), None, None), (wording, Hostile(), None)]
+        return [None, *wrong_values()[::3], wording, (wording,), (wording, None), (wording, None, None, None),
+                [wording, None, None],
+                (wording, held), ((0,), None, None), ((3, 0), None, None), ((0, 1), None, None),
+                ((0, False), None, None),
+                (None, None, None), (wording, False, None), (wording, None, False), (wording, 0, None),
+                (wording, None, ()),
+                (wording, row, None), (wording, (row,), held), (wording, held, (row, kept, kept)),
+                (wording, [row, kept], None),
+                (wording, (list(row), kept), None), (wording, None, (row, list(kept))),
+                (wording, ((0, 2), kept), None),
+                (wording, ((0, True), kept), None), (wording, None, (row, (1, 0, 0))),
+                (wording, held, (row, (1, 0, True))),
+                (wording, (row, (1, 2, 1)), held), (wording, None, Hostile()), (Hostile(), None, None),
+                (wording, Hostile(), None)]
 
     def test_couples(self):
         plan = self.plan
         held = ((0, 1), (1, 0, 1))
         assert_errors_in_order(self, first_couple, (plan,), [(0, BadPlan, self.no_plans)])
-        no_deeds = [None, *wrong_values()[::3], ("put", 1, 0), ("put", 0, 3), ("put", 0), ("put", 0, 0, 0), ["put", 0, 1],
+        no_deeds = [None, *wrong_values()[::3], ("put", 1, 0), ("put", 0, 3), ("put", 0), ("put", 0, 0, 0),
+                    ["put", 0, 1],
                     ("put", 0, True), ("build", 0, 0), ("build", 3, 1), ("build", 0, True), ("write", (0, 1), 1),
-                    ("write", 2, (0, 1), 1), ("write", True, (0, 1), 1), ("write", 1, (0, 1), 0), ("write", 1, (0, 2), 1),
-                    ("write", 1, [0, 1], 1), ("write", 1, (0,), 1), ("write", 1, (0, True), 1), ("write", 1, (0, 1), True),
-                    ("write", 1, (0, 1)), ("take", 1, 0), ("take", 2), ("take", -1), ("take", False), ("take",), ("shut", 0),
+                    ("write", 2, (0, 1), 1), ("write", True, (0, 1), 1), ("write", 1, (0, 1), 0),
+                    ("write", 1, (0, 2), 1),
+                    ("write", 1, [0, 1], 1), ("write", 1, (0,), 1), ("write", 1, (0, True), 1),
+                    ("write", 1, (0, 1), True),
+                    ("write", 1, (0, 1)), ("take", 1, 0), ("take", 2), ("take", -1), ("take", False), ("take",),
+                    ("shut", 0),
                     ("write", 1, (0, 1), Hostile()), ("take", Hostile()), (Hostile(), 0), Hostile()]
         for one, other, more, good in [
                 (None, None, [("take", 0), ("take", 1)], ("write", 1, (0, 1), 1)),
                 (held, None, [("take", 1), ("write", 0, (0, 1), 1)], ("take", 0)),
                 (None, held, [("take", 0), ("write", 1, (0, 1), 1)], ("take", 1)),
                 (held, held, [("write", 0, (0, 1), 1), ("write", 1, (0, 1), 1)], ("build", 2, 1))]:
-            checks = [(0, BadPlan, self.no_plans[:4]), (1, BadThing, self.no_things), (2, BadCouple, self.no_couples()),
+            checks = [(0, BadPlan, self.no_plans[:4]), (1, BadThing, self.no_things),
+                      (2, BadCouple, self.no_couples()),
                       (3, BadDeed, no_deeds + more)]
             assert_errors_in_order(self, couple_after, (plan, 0, ((1, 0), one, other), good), checks)
             assert_errors_in_order(self, couple_deeds, (plan, ((1, 0), one, other)), [

@@ -8,7 +8,8 @@ from keptmeanings.plans import Plan
 from keptmeanings.probes import Probes, parted, places, probes, reach
 from tests.reading import Reading
 from tests.samples import G, K, S, X, Y, example_plan, few_plans, made_plans, mixed_plan, three_plan
-from tests.support import Hostile, Plain, assert_errors_in_order, wrong_values
+from tests.support import (Hostile, assert_equal_by_attributes, assert_errors_in_order, assert_no_other_equal,
+                           wrong_values)
 
 NUMBERS = tuple(Form.number(n) for n in range(3))
 
@@ -22,7 +23,8 @@ def telling_plans():
     return [
         Plan(three, 1, (("kept", sums), ("again", X.by(0) + X.by(1)), ("check", K.same(2)))),
         Plan(three, 1, (("again", sums), ("kept", X.by(0)), ("check", X.by(2).by(1))), free=(1, 2)),
-        Plan(three, 2, (("kept", (X - Y).same(1) * X.by(0)), ("kept", X.same(0) * Y.by(1)), ("check", Y.same(2) * X.by(2)))),
+        Plan(three, 2, (("kept", (X - Y).same(1) * X.by(0)), ("kept", X.same(0) * Y.by(1)),
+                        ("check", Y.same(2) * X.by(2)))),
         Plan(two, 1, (("kept", sums), ("again", X.by(0)), ("check", X.by(1).by(2)))),
         Plan(two, 2, (("kept", X.by(0) + Y.by(1)), ("kept", K.by(2)), ("check", X.by(1) * Y.by(2)))),
         Plan(two, 2, (("kept", X.by(0) * Y), ("check", Y.by(0).then(1, X.by(1)))), free=(0, 1), askers=(1,)),
@@ -254,10 +256,12 @@ class TestShows(unittest.TestCase):
     def test_places_changed(self):
         for plan, reading, thing, told in probed(1):
             row, asker = told.places[0]
-            for changed in [told.places[1:], told.places * 2, told.places[:1] + told.places, [*told.places, ((9,), 0)],
+            for changed in [told.places[1:], told.places * 2, told.places[:1] + told.places,
+                            [*told.places, ((9,), 0)],
                             [((), 0)] + told.places[1:], [(row, 7)] + told.places[1:], [(row, -1)] + told.places[1:],
                             [((-1,) * len(row), asker)] + told.places[1:], [(row, asker, 0)] + told.places[1:],
-                            [(row,)] + told.places[1:], [(row, bool(asker))] + told.places[1:], [None] + told.places[1:]]:
+                            [(row,)] + told.places[1:], [(row, bool(asker))] + told.places[1:],
+                            [None] + told.places[1:]]:
                 self.assertIs(Probes(changed, told.against).shows(plan, thing), False)
             more = [place for place in product(reading.rows, reading.askers) if place not in told.places][:1]
             for changed in [sorted(told.places + more)]:
@@ -338,7 +342,8 @@ class TestShows(unittest.TestCase):
         self.assertIs(copied.shows(plan, 0), True)
 
     def test_of_another_thing(self):
-        plan = Plan(Book(3, 1, ((G, G * 0, G.same(2)), (G, G * G))), 1, (("kept", X.by(0)), ("kept", X.by(1)), ("again", X)))
+        plan = Plan(Book(3, 1, ((G, G * 0, G.same(2)), (G, G * G))), 1,
+                    (("kept", X.by(0)), ("kept", X.by(1)), ("again", X)))
         told = [probes(plan, thing) for thing in range(3)]
         for thing, other in product(range(3), repeat=2):
             self.assertIs(told[thing].shows(plan, other), thing == other)
@@ -347,16 +352,13 @@ class TestShows(unittest.TestCase):
 class TestEqual(unittest.TestCase):
     def test_attributes(self):
         place, pair = ((0,), 0), ((0,), (1,))
-        made = [([], {}), ([place], {}), ([place], {(): pair}), ([((1,), 0)], {(): pair}), ([place], {(): pair[::-1]})]
-        for (at, one), (where, other) in product(enumerate(made), repeat=2):
-            self.assertIs(Probes(*one) == Probes(*other), at == where)
-            self.assertIs(Probes(*one) != Probes(*other), at != where)
+        made = [([], {}), ([place], {}), ([place], {(): pair}), ([((1,), 0)], {(): pair}),
+                ([place], {(): pair[::-1]})]
+        assert_equal_by_attributes(self, [(Probes, parts) for parts in made])
 
     def test_not_equal_to_other_classes(self):
-        for other in [[], {}, None, 0, Plain(), example_plan(), Probes, example_plan().book, ([], {}), X]:
-            self.assertIs(Probes([], {}) == other, False)
-            self.assertIs(other == Probes([], {}), False)
-            self.assertIs(Probes([], {}) != other, True)
+        plan = example_plan()
+        assert_no_other_equal(self, [Probes([], {})], [plan, plan.book, X])
 
 
 class TestErrors(unittest.TestCase):
@@ -372,8 +374,10 @@ class TestErrors(unittest.TestCase):
         plan = mixed_plan()
         known = places(plan, 0)
         row, asker = known[0]
-        no_places = [None, 0, "", {}, {known[0]: 1}, set(), iter(known), known[0], [None], [0], [()], ["", ""], [known[0], row],
-                     [row], [list(known[0])], [(list(row), asker)], [(row, asker, asker)], [(row,)], [(row, bool(asker))],
+        no_places = [None, 0, "", {}, {known[0]: 1}, set(), iter(known), known[0], [None], [0], [()], ["", ""],
+                     [known[0], row],
+                     [row], [list(known[0])], [(list(row), asker)], [(row, asker, asker)], [(row,)],
+                     [(row, bool(asker))],
                      [((False, False), asker)], [(row, 2)], [(row, -1)], [((2, 2), 0)], [known], [Hostile()],
                      [(Hostile(), 0)], [(row, Hostile())], (known[0], None), Hostile(), [((0,), 0)]]
         no_wordings = [(9, 9), (0,), (0, 0, 0), (3, 0), (0, 1), (True, 0), [0, 0], None, 0, Hostile(), ((0, 0),)]

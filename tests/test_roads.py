@@ -10,7 +10,8 @@ from keptmeanings.plans import Plan
 from keptmeanings.roads import (NoRoad, Road, first_stand, is_good, road, road_price, stand_after, stand_deeds)
 from tests.reading import Reading
 from tests.samples import G, K, L, S, X, Y, example_plan, few_plans, made_plans, mixed_plan, three_plan
-from tests.support import Hostile, Plain, assert_errors_in_order, wrong_values
+from tests.support import (Hostile, assert_equal_by_attributes, assert_errors_in_order, assert_no_other_equal,
+                           wrong_values)
 
 ONE = Form.number(1)
 
@@ -21,8 +22,10 @@ def telling_plans():
     x = X.by(0)
     plans = [Plan(two, 1, things) for things in [
         (("kept", x),), (("kept", x), ("again", x)), (("kept", x), ("kept", K)), (("again", x), ("again", 1 - x)),
-        (("check", x),), (("check", x), ("kept", x)), (("check", x), ("kept", x), ("kept", X)), (("kept", x), ("kept", x + X)),
-        (("kept", x), ("kept", K), ("check", X)), (("kept", x), ("kept", K), ("again", L)), (("again", x), ("check", X))]]
+        (("check", x),), (("check", x), ("kept", x)), (("check", x), ("kept", x), ("kept", X)),
+        (("kept", x), ("kept", x + X)),
+        (("kept", x), ("kept", K), ("check", X)), (("kept", x), ("kept", K), ("again", L)),
+        (("again", x), ("check", X))]]
     chain = Book(2, 1, ((G, 1 - G), (G.by(0), G)))
     turning = Book(3, 1, ((G, G + 1, G + 2),))
     sessions = Book(2, 2, ((G, 1 - G, S),))
@@ -60,7 +63,8 @@ class RoadReading(Reading):
         self.start = (self.first[0], self.all_things, tuple(sorted(self.written(self.first[0]))))
 
     def written(self, wording):
-        there = {self.after((wording, None), ("write", row, writer))[1] for row in self.rows for writer in self.writers}
+        there = {self.after((wording, None), ("write", row, writer))[1] for row in self.rows
+                 for writer in self.writers}
         return there - {None}
 
     def stand_deeds(self, stand):
@@ -208,12 +212,15 @@ class TestStands(unittest.TestCase):
                 self.assertEqual(stand_deeds(plan, stand), reading.stand_deeds(stand))
 
     def test_deeds_written_out(self):
-        plan = Plan(Book(2, 2, ((G, S, G), (G, S), (G, S))), 1, (("kept", X), ("check", X), ("again", X)), free=(0, 2))
+        plan = Plan(Book(2, 2, ((G, S, G), (G, S), (G, S))), 1, (("kept", X), ("check", X), ("again", X)),
+                    free=(0, 2))
         builds = [("build", thing, s) for thing in range(3) for s in range(2)]
         self.assertEqual(stand_deeds(plan, ((1, 1, 0), (1,), ())),
-                         [("put", 0, 0), ("put", 0, 2), ("put", 2, 1), *builds, ("open", 0), ("shut", 1), ("open", 2)])
+                         [("put", 0, 0), ("put", 0, 2), ("put", 2, 1), *builds, ("open", 0), ("shut", 1),
+                          ("open", 2)])
         self.assertEqual(stand_deeds(plan, ((0, 0, 1), (0, 1, 2), (((0,), (0, 1, 0)),))),
-                         [("put", 0, 1), ("put", 0, 2), ("put", 2, 0), *builds, ("shut", 0), ("shut", 1), ("shut", 2)])
+                         [("put", 0, 1), ("put", 0, 2), ("put", 2, 0), *builds, ("shut", 0), ("shut", 1),
+                          ("shut", 2)])
 
     def test_all_deeds(self):
         for plan in telling_plans() + few_plans() + made_plans(64, 40):
@@ -230,8 +237,10 @@ class TestStands(unittest.TestCase):
         self.assertEqual(stand_after(plan, ((1,), (1,), ()), ("open", 0)), ((1,), (0, 1), (((1,), (0, 1)),)))
         self.assertEqual(stand_after(plan, ((0,), (), ()), ("put", 0, 1)), ((1,), (), (((1,), (0, 1)),)))
         both = (((0,), (1, 1)), ((1,), (0, 1)))
-        self.assertEqual(stand_after(plan, ((0,), (), both), ("build", 1, 0)), ((0,), (), (((1,), (0, 1)), ((1,), (1, 1)))))
-        self.assertEqual(stand_after(plan, ((0,), (), both), ("build", 0, 0)), ((0,), (), (((0,), (0, 1)), ((1,), (1, 1)))))
+        self.assertEqual(stand_after(plan, ((0,), (), both), ("build", 1, 0)),
+                         ((0,), (), (((1,), (0, 1)), ((1,), (1, 1)))))
+        self.assertEqual(stand_after(plan, ((0,), (), both), ("build", 0, 0)),
+                         ((0,), (), (((0,), (0, 1)), ((1,), (1, 1)))))
         # By another writer, a row is built in another way, but what is written by all of them is there again.
         other = Plan(Book(2, 2, ((G,),)), 1, (("kept", X + S),))
         self.assertEqual(stand_after(other, ((0,), (0,), (((0,), (0,)),)), ("build", 0, 1))[2],
@@ -289,7 +298,8 @@ class TestRoad(unittest.TestCase):
             self.assertEqual(road_price(plan, ((shut, build),), (1,)), shut + build)
             self.assertEqual(road_price(plan, ((shut, build),), (0,)), 0)
         two = Plan(plan.book, 1, (("again", X.by(0)), ("check", X.by(0) * 0 + 1)))
-        self.assertEqual([road_price(two, prices, (1,)) for prices in [((2, 3), (9, 9)), ((0, 0), (0, 0)), ((9, 9), (0, 0))]],
+        self.assertEqual([road_price(two, prices, (1,))
+                          for prices in [((2, 3), (9, 9)), ((0, 0), (0, 0)), ((9, 9), (0, 0))]],
                          [5, 0, 18])
 
     def test_roads_that_pay_for_another_way(self):
@@ -377,7 +387,8 @@ class TestTooLarge(unittest.TestCase):
     def test_more_than_120(self):
         plan = Plan(Book(2, 1, ((G * 0, G * 0, ONE),)), 1, (("kept", X.by(0)), ("kept", X.by(0) - X), ("kept", L)))
         self.assertEqual(len(RoadReading(plan).good_stands(400)), 123)
-        one_more = Plan(Book(2, 1, ((G * 0, G), (G.by(0), ONE, G))), 1, (("kept", ONE.by(1)), ("again", K), ("check", K)))
+        one_more = Plan(Book(2, 1, ((G * 0, G), (G.by(0), ONE, G))), 1,
+                        (("kept", ONE.by(1)), ("again", K), ("check", K)))
         self.assertEqual(len(RoadReading(one_more).good_stands(400)), 121)
         self.assert_large(one_more)
         # Also where a road has no deeds at all, or where there is none.
@@ -401,11 +412,12 @@ class TestTooLarge(unittest.TestCase):
         self.assert_large(plan)
         stands = list(reading.good_stands(400))
         fixed = plan - [0, 1, 2]
-        self.assertIs(NoRoad([stand for stand in stands if stand[0] == (0, 0, 0)]).shows(fixed, ((0, 0),) * 3, (1, 0, 0)), True)
+        self.assertIs(NoRoad([stand for stand in stands if stand[0] == (0, 0, 0)]).shows(fixed, ((0, 0),) * 3,
+                                                                                         (1, 0, 0)), True)
         self.assertIs(NoRoad(stands).shows(plan, ((0, 0),) * 3, (2, 2, 1)), False)
         self.assertIs(Road([("put", 0, 1)], []).shows(plan, ((1, 1),) * 3, (1, 0, 0)), True)
-        self.assertIs(Road([("put", 0, 1)], [(stand, 5) for stand in stands if stand[1] == ()]).shows(plan, ((1, 1),) * 3, (1, 0, 0)),
-                      True)
+        shut = [(stand, 5) for stand in stands if stand[1] == ()]
+        self.assertIs(Road([("put", 0, 1)], shut).shows(plan, ((1, 1),) * 3, (1, 0, 0)), True)
 
 
 class TestShowsRoad(unittest.TestCase):
@@ -435,7 +447,8 @@ class TestShowsRoad(unittest.TestCase):
         plan, prices = telling_plans()[0], ((3, 5),)
         told = road(plan, prices, (1,))
         shut, put, build, again = told.deeds
-        self.assertIs(Road([shut, put, ("put", 0, 0), put, build, again], told.heights).shows(plan, prices, (1,)), True)
+        self.assertIs(Road([shut, put, ("put", 0, 0), put, build, again], told.heights).shows(plan, prices, (1,)),
+                      True)
         self.assertIs(Road([shut, put, build, build, again], told.heights).shows(plan, prices, (1,)), False)
         self.assertIs(Road([shut, put, build, build, again], told.heights).shows(plan, ((3, 0),), (1,)), True)
         self.assertIs(Road([shut, build, put, build, again], told.heights).shows(plan, prices, (1,)), False)
@@ -476,7 +489,8 @@ class TestShowsRoad(unittest.TestCase):
         told = road(plan, prices, (1,))
         first = first_stand(plan)
         rest = [pair for pair in told.heights if pair[0] != first]
-        for heights, expected in [([(first, 0)] + rest, True), (rest, False), ([(first, 1)] + rest, False), (rest + [(first, 0)], True),
+        for heights, expected in [([(first, 0)] + rest, True), (rest, False), ([(first, 1)] + rest, False),
+                                  (rest + [(first, 0)], True),
                                   ([(first, -1)] + rest, False), ([(first, 1), (first, 0)] + rest, True),
                                   ([(first, 8)] + rest, False)]:
             self.assertIs(Road(told.deeds, heights).shows(plan, prices, (1,)), expected)
@@ -517,21 +531,27 @@ class TestShowsRoad(unittest.TestCase):
         self.assertIs(is_good(plan, bad), False)
         # To build it anew leads to the first stand, for 5 more; to shut it, for 3 more, to a stand that is not listed.
         shut = ((0,), (), (((0,), (0,)), ((0,), (1,)), ((1,), (1,))))
-        for heights, expected in [([(bad, 5)], True), ([(bad, 4)], False), ([(bad, 4), (shut, 7)], True), ([(bad, -5)], False),
+        for heights, expected in [([(bad, 5)], True), ([(bad, 4)], False), ([(bad, 4), (shut, 7)], True),
+                                  ([(bad, -5)], False),
                                   ([(bad, 0), (shut, 3)], True), ([(bad, -1), (shut, 3)], False)]:
             self.assertIs(self.assert_shown(case, told.deeds, told.heights + heights), expected)
 
     def test_no_deeds_and_no_heights(self):
         plan, prices = telling_plans()[0], ((3, 5),)
         told = road(plan, prices, (1,))
-        for wrong in [("put", 0, 2), ("put", 0, 0), ("put", 0, True), ("put", 0), (), ("build", 1, 0), ("build", 0, 1), ("open", 0),
-                      ("shut", 1), ("shut", False), ("shut",), ("shut", 0, 0), ("write", (0,), 0), ("take", 0), (0, 0), None, Hostile()]:
+        for wrong in [("put", 0, 2), ("put", 0, 0), ("put", 0, True), ("put", 0), (), ("build", 1, 0),
+                      ("build", 0, 1), ("open", 0),
+                      ("shut", 1), ("shut", False), ("shut",), ("shut", 0, 0), ("write", (0,), 0), ("take", 0),
+                      (0, 0), None, Hostile()]:
             for deeds in ([wrong] + told.deeds, told.deeds + [wrong], told.deeds[:1] + [wrong] + told.deeds[1:]):
                 self.assertIs(Road(deeds, told.heights).shows(plan, prices, (1,)), False)
         first = first_stand(plan)
-        for wrong in [first, (first,), (first, 0, 0), (first, True), (first, None), (None, 9), [first, 9], ((first[0], first[1]), 9),
-                      (((2,), (), ()), 9), (((0,), (1,), ()), 9), (((False,), (), ()), 9), (((0,), (0, 0), ()), 9), None,
-                      (((0,), (0,), first[2][::-1]), 9), (((0,), (0,), first[2][:1] * 2), 9), (((0,), (0,), (((0,), (2,)),)), 9)]:
+        for wrong in [first, (first,), (first, 0, 0), (first, True), (first, None), (None, 9), [first, 9],
+                      ((first[0], first[1]), 9),
+                      (((2,), (), ()), 9), (((0,), (1,), ()), 9), (((False,), (), ()), 9), (((0,), (0, 0), ()), 9),
+                      None,
+                      (((0,), (0,), first[2][::-1]), 9), (((0,), (0,), first[2][:1] * 2), 9),
+                      (((0,), (0,), (((0,), (2,)),)), 9)]:
             self.assertIs(Road(told.deeds, told.heights + [wrong]).shows(plan, prices, (1,)), False)
 
     def test_of_other_prices_and_wordings(self):
@@ -542,7 +562,8 @@ class TestShowsRoad(unittest.TestCase):
             random = Random(len(told.deeds))
             for _ in range(5):
                 other = prices_for(plan, random)
-                self.assertIs(told.shows(plan, other, wording), reading.shown(told.deeds, told.heights, other, wording))
+                self.assertIs(told.shows(plan, other, wording),
+                              reading.shown(told.deeds, told.heights, other, wording))
 
     def test_current_attributes_and_copies(self):
         plan, prices = telling_plans()[0], ((3, 5),)
@@ -609,8 +630,10 @@ class TestShowsNoRoad(unittest.TestCase):
         told = road(plan, ((3, 5),), (1,))
         first = first_stand(plan)
         self.assertIs(told.shows(plan, ((3, 5),), (1,)), True)
-        for wrong in [None, (), first[:2], (*first, 0), ((2,), (), ()), ((False,), (), ()), ((0,), [0], ()), ((0,), (1,), ()),
-                      ((0,), (0,), list(first[2])), ((0,), (0,), first[2][::-1]), ((0,), (), (((0,), (True,)),)), Hostile()]:
+        for wrong in [None, (), first[:2], (*first, 0), ((2,), (), ()), ((False,), (), ()), ((0,), [0], ()),
+                      ((0,), (1,), ()),
+                      ((0,), (0,), list(first[2])), ((0,), (0,), first[2][::-1]), ((0,), (), (((0,), (True,)),)),
+                      Hostile()]:
             self.assertIs(NoRoad(told.stands + [wrong]).shows(plan, ((3, 5),), (1,)), False)
 
     def test_current_attributes_and_copies(self):
@@ -629,18 +652,14 @@ class TestShowsNoRoad(unittest.TestCase):
 class TestEqual(unittest.TestCase):
     def test_attributes(self):
         stand = ((0,), (), ())
-        made = [(Road, ([], [])), (Road, ([("shut", 0)], [])), (Road, ([("open", 0)], [])), (Road, ([], [(stand, 0)])),
+        made = [(Road, ([], [])), (Road, ([("shut", 0)], [])), (Road, ([("open", 0)], [])),
+                (Road, ([], [(stand, 0)])),
                 (Road, ([], [(stand, 1)])), (NoRoad, ([],)), (NoRoad, ([stand],)), (NoRoad, ([stand, stand],))]
-        for (at, (kind, parts)), (where, (others, other_parts)) in product(enumerate(made), enumerate(made)):
-            self.assertIs(kind(*parts) == others(*other_parts), at == where)
-            self.assertIs(kind(*parts) != others(*other_parts), at != where)
+        assert_equal_by_attributes(self, made)
 
     def test_not_equal_to_other_classes(self):
-        for one in (Road([], []), NoRoad([])):
-            for other in [[], None, 0, Plain(), example_plan(), Road, example_plan().book, ([], []), X]:
-                self.assertIs(one == other, False)
-                self.assertIs(other == one, False)
-                self.assertIs(one != other, True)
+        plan = example_plan()
+        assert_no_other_equal(self, [Road([], []), NoRoad([])], [plan, plan.book, X])
 
 
 class TestErrors(unittest.TestCase):
@@ -650,22 +669,33 @@ class TestErrors(unittest.TestCase):
 
     def no_stands(self):
         wording, held, other = (0, 0), ((0, 1), (1, 0, 1)), ((1, 1), (1, 0, 1))
-        return [None, *wrong_values()[::3], wording, (wording,), (wording, ()), (wording, (), (), ()), [wording, (), ()],
-                ((0,), (), ()), ((3, 0), (), ()), ((0, False), (), ()), (None, (), ()), (wording, None, ()), (wording, 0, ()),
-                (wording, [0], ()), (wording, (0, 0), ()), (wording, (1, 0), ()), (wording, (3,), ()), (wording, (-1,), ()),
-                (wording, (True,), ()), (wording, (0, 1, 2, 3), ()), (wording, (), None), (wording, (), []), (wording, (), held),
-                (wording, (), (None,)), (wording, (), (held, held)), (wording, (), (other, held)), (wording, (), [held]),
-                (wording, (), ((held[0], (1, 0, 0)),)), (wording, (), ((held[0], (1, 2, 1)),)), (wording, (), (((0,), held[1]),)),
-                (wording, (), (held, (held[0], (True, 0, 1)))), (wording, (), ((list(held[0]), held[1]),)), (wording, (), (Hostile(),)),
+        return [None, *wrong_values()[::3], wording, (wording,), (wording, ()), (wording, (), (), ()),
+                [wording, (), ()],
+                ((0,), (), ()), ((3, 0), (), ()), ((0, False), (), ()), (None, (), ()), (wording, None, ()),
+                (wording, 0, ()),
+                (wording, [0], ()), (wording, (0, 0), ()), (wording, (1, 0), ()), (wording, (3,), ()),
+                (wording, (-1,), ()),
+                (wording, (True,), ()), (wording, (0, 1, 2, 3), ()), (wording, (), None), (wording, (), []),
+                (wording, (), held),
+                (wording, (), (None,)), (wording, (), (held, held)), (wording, (), (other, held)),
+                (wording, (), [held]),
+                (wording, (), ((held[0], (1, 0, 0)),)), (wording, (), ((held[0], (1, 2, 1)),)),
+                (wording, (), (((0,), held[1]),)),
+                (wording, (), (held, (held[0], (True, 0, 1)))), (wording, (), ((list(held[0]), held[1]),)),
+                (wording, (), (Hostile(),)),
                 (wording, Hostile(), ()), (Hostile(), (), ()), (wording, (Hostile(),), ()), (wording, (), Hostile())]
 
     def test_stands(self):
         plan = self.plan
         held = (((0, 1), (0, 1, 1)), ((0, 1), (1, 0, 1)), ((1, 1), (0, 0, 1)))
-        no_deeds = [None, *wrong_values()[::3], ("put", 1, 0), ("put", 0, 3), ("put", 0, 1), ("put", 0), ("put", 0, 0, 0), ["put", 0, 2],
-                    ("put", 0, True), ("build", 0, 0), ("build", 3, 1), ("build", 0, True), ("build", 0), ("build", True, 1),
-                    ("shut", 1), ("open", 0), ("open", 2), ("shut", 3), ("open", 3), ("open", True), ("shut", False), ("shut",),
-                    ("open", 1, 0), ("shut", -1), ("write", (0, 1), 1), ("take", 0), (0, 0), (Hostile(), 0), ("shut", Hostile()), Hostile()]
+        no_deeds = [None, *wrong_values()[::3], ("put", 1, 0), ("put", 0, 3), ("put", 0, 1), ("put", 0),
+                    ("put", 0, 0, 0), ["put", 0, 2],
+                    ("put", 0, True), ("build", 0, 0), ("build", 3, 1), ("build", 0, True), ("build", 0),
+                    ("build", True, 1),
+                    ("shut", 1), ("open", 0), ("open", 2), ("shut", 3), ("open", 3), ("open", True), ("shut", False),
+                    ("shut",),
+                    ("open", 1, 0), ("shut", -1), ("write", (0, 1), 1), ("take", 0), (0, 0), (Hostile(), 0),
+                    ("shut", Hostile()), Hostile()]
         good = ((1, 0), (0, 2), held)
         stands = [(0, BadPlan, self.no_plans), (1, BadStand, self.no_stands())]
         assert_errors_in_order(self, first_stand, (plan,), stands[:1])
@@ -678,13 +708,18 @@ class TestErrors(unittest.TestCase):
         plan = three_plan()
         plan = Plan(plan.book, 1, plan.things[:2], free=(0,))
         pair = (0, 9)
-        no_prices = [None, *wrong_values()[::3], (pair,), (pair, pair, pair), [pair, pair], (pair, list(pair)), (pair, (0, 10)), (pair, (-1, 0)),
-                     (pair, (0, 0, 0)), (pair, (0,)), (pair, (True, 0)), (pair, (0, False)), (pair, None), (pair, 0), ((None, 0), pair),
-                     (pair, (0, Hostile())), (pair, Hostile()), {0: pair, 1: pair}, ((0, 10 ** 40), pair), ((0, 0), ("1", 0))]
-        no_wordings = [None, *wrong_values()[::3], (0,), (0, 0, 0), (2, 0), (0, 2), (True, 0), [0, 0], (-1, 0), Hostile()]
+        no_prices = [None, *wrong_values()[::3], (pair,), (pair, pair, pair), [pair, pair], (pair, list(pair)),
+                     (pair, (0, 10)), (pair, (-1, 0)),
+                     (pair, (0, 0, 0)), (pair, (0,)), (pair, (True, 0)), (pair, (0, False)), (pair, None), (pair, 0),
+                     ((None, 0), pair),
+                     (pair, (0, Hostile())), (pair, Hostile()), {0: pair, 1: pair}, ((0, 10 ** 40), pair),
+                     ((0, 0), ("1", 0))]
+        no_wordings = [None, *wrong_values()[::3], (0,), (0, 0, 0), (2, 0), (0, 2), (True, 0), [0, 0], (-1, 0),
+                       Hostile()]
         checks = [(0, BadPlan, self.no_plans), (1, BadPrices, no_prices), (2, BadWording, no_wordings)]
         good = (plan, (pair, (3, 3)), (1, 0))
-        for function in (road, road_price, Road([], []).shows, NoRoad([]).shows, Road([None], [None]).shows, NoRoad([None]).shows):
+        for function in (road, road_price, Road([], []).shows, NoRoad([]).shows, Road([None], [None]).shows,
+                         NoRoad([None]).shows):
             assert_errors_in_order(self, function, good, checks)
 
     def test_wrong_arguments_ahead_of_too_large(self):
